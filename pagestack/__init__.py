@@ -1,0 +1,1 @@
+"""Pagestack: a browser of small pages, from markup to painted cells, events and scripts."""
