@@ -85,8 +85,7 @@ def declarations_in(part):
     name = name.strip()
     value = value.strip()
     important = value.endswith(IMPORTANT)
-    if important:
-        value = value.removesuffix(IMPORTANT).strip()
+    value = value.removesuffix(IMPORTANT).strip()
     if sign == "" or name == "" or value == "":
         raise StyleError("expected a name and a value")
     return [Declaration(row[0], row[1], important) for row in value_rows(name, value)]

@@ -101,7 +101,7 @@ class Trees(unittest.TestCase):
 
     def test_remarks_count_for_nothing_but_part_texts(self):
         self.assertEqual(tree("a<!-- <b> & -- > -->b"), ["a", "b"])
-        self.assertEqual(tree("<!----><!---->"), [])
+        self.assertEqual(tree("a<!---->b<!---->"), ["a", "b"])
         self.assertEqual(tree("<p>a<!-- x --> <!-- y -->b"), [["p", "a", "b"]])
         self.assertEqual(tree("<b>a<!-- x --> <!-- y -->c"), [["b", "a", " ", "c"]])
         self.assertEqual(tree("<p><!-- x --></p>"), [["p"]])
@@ -170,7 +170,7 @@ class Refusals(unittest.TestCase):
 
     def test_signs_that_do_not_fit(self):
         self.refuse("<", "a < b", "<>", "< p>", "<p", "<p ", "<p a", "<p a=", '<p a="', '<p a="x', '<p a="x"', "<p a=x>")
-        self.refuse("<P>", "<p A>", "<p a='x'>", '<p "x">', '<p ="x">', '<p a = "x">', '<p a= "x">', "<p/>", "<br />")
+        self.refuse("<P>", "<p A>", "<p a='x'>", '<p "x">', ' b>c<p a="x', '<p ="x">', '<p a = "x">', '<p a= "x">', "<p/>", "<br />")
         self.refuse('<p a="1"b="2">', '<p a="1"b>', "<p_a>", "<p a_b>", "<p <b>>", "<p\t>", "<!doctype>", "<!- x -->")
         self.refuse("</", "<p></", "<p></>", "<p></p", "<p></ p>", "<p></p a>", "<p></P>", "<p></p/>", "<?p?>")
 

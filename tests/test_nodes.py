@@ -257,6 +257,16 @@ class DocumentTest(Refused):
         document.append(node, child)
         self.assertEqual(numbers(node), [2])
 
+    def test_each_deed_counts_the_version_on(self):
+        document = Document()
+        node, text = document.make("p"), document.make(None, "a")
+        deeds = ((document.append, document.root, node), (document.place_before, node, text, 0), (document.set_text, text, "b"),
+                 (document.set_attribute, node, "a", "b"), (document.remove, text), (document.set_text, node, "c"))
+        for deed, *arguments in deeds:
+            before = document.version
+            deed(*arguments)
+            self.assertGreater(document.version, before)
+
     def test_the_first_with_an_id(self):
         document = Document()
         nodes = [document.make("p") for _ in range(3)]

@@ -212,7 +212,7 @@ class Refusals(unittest.TestCase):
     def test_what_is_no_selector(self):
         texts = ["", " ", ",", "a,", ",a", "a,,b", "a >", "> a", "a > > b", "a + > b", "+ a", "a ~ b", "a ! b", "a!", "A", "aB",
                  "#", "a#", "#a#b", ".", "a..b", ".A", "#a a#b#c", ":", ":hover", ":first", ":nth-child(1)", "::empty", ":empty()",
-                 "[", "[]", "[t", "[t=]", "[t=u]", "[t='u']", '[t="u]', '[t="u"', '[="u"]', "[ t]", "[t ]", '[t= "u"]',
+                 "[", "[]", "[t", "[t=]", "[t=u]", "[t='u']", '[t=u"]', '[t="u]', '[t="u"', '[="u"]', "[ t]", "[t ]", '[t= "u"]',
                  '[t ="u"]', '[t="u" ]', "[T]", "a*", "**", "*a", "#a*", "1.5.", "a{", "a}", "a;", '"a"', "@width", "a\tb", "(a)"]
         document = parse_markup("<a></a>")
         for text in texts:
@@ -241,6 +241,11 @@ class Reading(unittest.TestCase):
             with self.assertRaises(StyleError, msg=text):
                 reader.attribute()
             self.assertEqual(reader.place, 0)
+        reader = SelectorReader(']t="u')
+        reader.place = 1
+        with self.assertRaises(StyleError):
+            reader.attribute()
+        self.assertEqual(reader.place, 1)
 
 
 if __name__ == "__main__":

@@ -78,6 +78,14 @@ class Declarations(unittest.TestCase):
             with self.assertRaises(StyleError, msg=text):
                 declarations_of(text)
 
+    def test_named_texts_have_all_signs_but_brackets(self):
+        for sign in map(chr, range(33, 127)):
+            if sign in "()[]{}":
+                with self.assertRaises(StyleError, msg=sign):
+                    declarations_of("--a: b" + sign + "c")
+            elif sign != ";":
+                self.assertEqual(told("--a: b" + sign + "c"), [("--a", "b" + sign + "c", False)])
+
     def test_uses_of_names(self):
         self.assertEqual(told("color: use(--a)"), [("color", ("use", "--a"), False)])
         self.assertEqual(told("margin-left: use(--a-1) !important"), [("margin-left", ("use", "--a-1"), True)])
@@ -120,6 +128,12 @@ class Blocks(unittest.TestCase):
     def test_braces_in_values_of_attributes_are_signs(self):
         text = '@width (max 3) { [a="}{"] { color: red } } [b="{"], [c="}"] { color: blue }'
         self.assertEqual([row[0] for row in shown(text)], [('[a="}{"]',), ('[b="{"]', '[c="}"]')])
+        text = '[t] { color: red } [u=""] { color: red } [v="{"] { color: red }'
+        self.assertEqual([row[0] for row in shown(text)], [("[t]",), ('[u=""]',), ('[v="{"]',)])
+
+    def test_quotes_elsewhere_are_signs(self):
+        rows = shown('p { --a: b="c; } q { --d: e"f; }')
+        self.assertEqual([row[1] for row in rows], [(("--a", 'b="c', False),), (("--d", 'e"f', False),)])
 
 
 class Conditions(unittest.TestCase):
@@ -130,7 +144,7 @@ class Conditions(unittest.TestCase):
             self.assertEqual(width_of(text), wanted)
 
     def test_what_is_no_condition(self):
-        for text in ("", " ", "min 20", "(min 20", "min 20)", "()", "(min)", "(20)", "(min x)", "(min -1)", "(min 1000)", "(mid 3)",
+        for text in ("", " ", "min 20", "(min 20", "min 20)", "xmin 20)", "()", "(min)", "(20)", "(min x)", "(min -1)", "(min 1000)", "(mid 3)",
                      "(min 1 2)", "(min 1) (max 2)", "(min 1) and", "and (min 1)", "(min 1) or (max 2)", "(min 1) and (min 2)",
                      "(min 1) and (max 2) and (max 3)", "((min 1))", "(MIN 1)", "(min 1) and max 2", "(min 1pc)", "("):
             with self.assertRaises(StyleError, msg=text):

@@ -30,6 +30,8 @@ class Numbers(unittest.TestCase):
             self.assertTrue(is_number(text), text)
         for text in ("", "-", "1000", "-1000", "0000", "+1", "--1", "1-", "1.5", " 1", "1 ", "a", "1a", "pc", "\u0663", "\u00b2"):
             self.assertFalse(is_number(text), text)
+        for sign in map(chr, range(32, 127)):
+            self.assertEqual(is_number("1" + sign), sign.isdigit(), sign)
 
 
 class Values(unittest.TestCase):
@@ -163,6 +165,7 @@ class Texts(unittest.TestCase):
         self.assertEqual(resolved(("cells", -7), 40), -7)
         self.assertEqual(resolved(("share", 50), 41), 20)
         self.assertEqual(resolved(("share", 33), 10), 3)
+        self.assertEqual(resolved(("share", 99), 200), 198)
         self.assertEqual(resolved(("share", -50), 3), -2)
         self.assertEqual(resolved(("share", 150), 10), 15)
         self.assertEqual(resolved("auto", 10), "auto")
