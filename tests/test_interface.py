@@ -26,6 +26,29 @@ CLASSES = {
         "Piece": {"__init__": "kind, text, node, width", "shown": ""},
         "Box": {"__init__": "node, values"},
     },
+    "lines": {"Line": {"__init__": "", "add": "piece, text"}},
+    "paint": {
+        "Canvas": {"__init__": "width, height", "cell": "column, row", "fill": "area, colour, number, clip",
+                   "write": "column, row, text, look, clip", "letter_rows": "", "shown": ""},
+    },
+    "events": {
+        "Event": {"__init__": "kind, target, detail=''"},
+        "Listeners": {"__init__": "", "add": "number, kind, function, captures=False, once=False",
+                      "remove": "number, kind, function, captures=False", "for_phase": "number, kind, phase"},
+    },
+    "scriptwords": {"ScriptToken": {"__init__": "kind, value", "shown": ""}},
+    "scriptparse": {"ScriptReader": {"__init__": "text", "here": "", "take": "kind"}},
+    "scriptvalues": {
+        "Function": {"__init__": "number, names, body, scope"},
+        "ScriptList": {"__init__": "number, rows"},
+        "ScriptTable": {"__init__": "number, rows"},
+        "PageFunction": {"__init__": "name, least, most"},
+    },
+    "calls": {"Calls": {"__init__": "page", "do": "name, arguments"}},
+    "page": {
+        "Page": {"__init__": "markup, width=40, height=20", "laid_out": "", "painted": "", "resize": "width, height",
+                 "click": "node", "wait": "ticks"},
+    },
 }
 FUNCTIONS = {
     "markup": {"with_entities": "text", "escaped": "text", "parse_markup": "text", "markup_of": "node", "inner_markup": "node"},
@@ -39,6 +62,14 @@ FUNCTIONS = {
                 "with_names": "value, name, names", "computed": "node, above, rules, width", "adjusted": "found",
                 "styles_of": "document, rules, width"},
     "boxes": {"transformed": "text, word", "shown_value": "node", "kept_pieces": "text, node"},
+    "lines": {"break_lines": "pieces, width, align", "widest": "pieces"},
+    "layout": {"lay_out": "document, styles, width"},
+    "paint": {"meeting": "one, other", "element_at": "canvas, column, row"},
+    "events": {"way_of": "node, bubbles", "dispatch": "listeners, event, call"},
+    "scriptwords": {"text_token": "text, place", "run_of": "text, place, signs", "tokens_of": "text"},
+    "scriptparse": {"parse_script": "text", "is_statement": "text"},
+    "calls": {"number_of": "text", "event_part": "name, event", "good_tag": "value"},
+    "page": {"form_rows": "form", "coded": "text"},
 }
 
 

@@ -3,6 +3,7 @@
 import ast
 import builtins
 import os
+import re
 import unittest
 
 ROOT = os.path.dirname(os.path.dirname(os.path.abspath(__file__)))
@@ -80,6 +81,13 @@ def plain_value(node):
     return isinstance(node, ast.Dict) and all(plain_value(item) for item in node.keys + node.values)
 
 
+def table_of_functions(node, above):
+    """Return True for a dict of texts to functions that are defined above it."""
+    if not isinstance(node, ast.Dict) or not all(plain_value(item) for item in node.keys):
+        return False
+    return all(isinstance(item, ast.Name) and item.id in above for item in node.values)
+
+
 class Language(unittest.TestCase):
     def test_files_are_plain(self):
         for name in os.listdir(PACKAGE):
@@ -104,7 +112,8 @@ class Language(unittest.TestCase):
                 if isinstance(node, ast.Assign):
                     self.assertEqual(len(node.targets), 1, at)
                     self.assertIsInstance(node.targets[0], ast.Name, at)
-                    self.assertTrue(plain_value(node.value), at)
+                    above = [one.name for one in tree.body[:place] if isinstance(one, ast.FunctionDef)]
+                    self.assertTrue(plain_value(node.value) or table_of_functions(node.value, above), at)
                     names.append(node.targets[0].id)
                 elif isinstance(node, ast.ImportFrom):
                     names.extend(alias.name for alias in node.names)
@@ -232,6 +241,54 @@ class Language(unittest.TestCase):
                         if isinstance(node, ast.Attribute) and isinstance(node.ctx, ast.Store):
                             self.assertNotIn(node.attr, methods, f"{name}:{node.lineno}")
 
+    def test_no_name_is_a_method_and_an_attribute_anywhere(self):
+        methods = set()
+        attributes = {}
+        for name, tree in trees():
+            for node in ast.walk(tree):
+                if isinstance(node, ast.ClassDef):
+                    methods |= {one.name for one in functions(node)}
+                elif isinstance(node, ast.Attribute) and isinstance(node.ctx, ast.Store):
+                    attributes[node.attr] = f"{name}:{node.lineno}"
+        for word, at in attributes.items():
+            self.assertNotIn(word, methods, at)
+
+    def test_functions_of_tables_are_called_by_a_name(self):
+        for name, tree in trees():
+            for node in ast.walk(tree):
+                if isinstance(node, ast.Call):
+                    self.assertIsInstance(node.func, (ast.Name, ast.Attribute), f"{name}:{node.lineno}")
+
+    def test_handlers_name_own_errors_each_by_another_name(self):
+        for name, tree in trees():
+            for function in functions(tree):
+                words = []
+                for node in ast.walk(function):
+                    if isinstance(node, ast.ExceptHandler):
+                        self.assertIsInstance(node.type, ast.Name, f"{name}:{node.lineno}")
+                        self.assertNotIn(node.type.id, BUILTINS, f"{name}:{node.lineno}")
+                        words.extend([node.name] if node.name else [])
+                self.assertEqual(len(words), len(set(words)), f"{name}:{function.lineno}")
+                self.assertFalse(set(words) & {word for word, _ in bound_names(function)}, f"{name}:{function.lineno}")
+
+    def test_what_stands_in_a_finally_is_plain(self):
+        for name, tree in trees():
+            for node in ast.walk(tree):
+                if isinstance(node, ast.Try):
+                    for row in node.finalbody:
+                        self.assertIsInstance(row, ast.Assign, f"{name}:{row.lineno}")
+                        self.assertIsInstance(row.value, (ast.Constant, ast.Name, ast.Attribute), f"{name}:{row.lineno}")
+
+    def test_there_are_no_nested_functions_and_no_calls_with_stars(self):
+        for name, tree in trees():
+            for function in functions(tree):
+                inner = [node for node in functions(function) if node is not function]
+                self.assertEqual(inner, [], f"{name}:{function.lineno}")
+            for node in ast.walk(tree):
+                if isinstance(node, ast.Call):
+                    self.assertFalse(any(isinstance(one, ast.Starred) for one in node.args), f"{name}:{node.lineno}")
+                    self.assertFalse(any(one.arg is None for one in node.keywords), f"{name}:{node.lineno}")
+
     def test_strings(self):
         for name, tree in trees():
             docs = [ast.get_docstring(node, clean=False) for node in ast.walk(tree)
@@ -241,7 +298,9 @@ class Language(unittest.TestCase):
                     at = f"{name}:{node.lineno}"
                     self.assertNotIn("%", node.value, at)
                     self.assertFalse(node.value.endswith("._") or node.value.endswith(".__"), at)
-                    for word in NO_WORDS | {"dataclass", "overload", "contextmanager"}:
+                    for word in NO_WORDS:
+                        self.assertIsNone(re.search(r"\b" + word + r"\b", node.value), at)
+                    for word in ("dataclass", "overload", "contextmanager"):
                         self.assertNotIn(word, node.value, at)
 
     def test_what_a_loop_goes_over_is_not_changed_in_it(self):
