@@ -61,6 +61,8 @@ class Boxes(unittest.TestCase):
     def test_a_br_is_more_than_spaces(self):
         wanted = ("html", "", [("a", "", [(None, "|", []), ("p", "y", [])])])
         self.assertEqual(root_shape('<div id="a"><br><p>y</p></div>'), wanted)
+        _, root = laid("<br>")
+        self.assertEqual([(piece.kind, piece.text, piece.width, piece.node.tag) for piece in root.pieces], [("end", "", 0, "br")])
         self.assertEqual(root_shape('<div id="a"><br></div>'), ("html", "", [("a", "|", [])]))
 
     def test_boxes_within_inline_elements_belong_to_the_block_around(self):
@@ -70,7 +72,7 @@ class Boxes(unittest.TestCase):
     def test_blanks_and_line_ends_are_spaces(self):
         _, root = laid("<div>a\n b</div>")
         self.assertEqual([piece.kind for piece in root.children[0].pieces], ["word", "space", "space", "word"])
-        self.assertEqual([piece.text for piece in root.children[0].pieces], ["a", " ", " ", "b"])
+        self.assertEqual([(piece.text, piece.width) for piece in root.children[0].pieces], [("a", 1), (" ", 1), (" ", 1), ("b", 1)])
 
     def test_kept_blanks(self):
         _, root = laid("<pre>a  b\n c</pre>")
@@ -94,7 +96,7 @@ class Boxes(unittest.TestCase):
         self.assertEqual(root_shape('<input value="aB">', "input { text-transform: upper }"), ("html", "[aB]", []))
 
     def test_the_width_of_an_img(self):
-        for told, shown in (("5", "#####"), ("0", ""), ("50pc", ""), ("auto", "###")):
+        for told, shown in (("5", "#####"), ("0", ""), ("50pc", ""), ("100pc", ""), ("auto", "###")):
             _, root = laid("<img>", "img { width: " + told + " }")
             self.assertEqual([(piece.text, piece.width) for piece in root.pieces], [(shown, len(shown))], told)
 
@@ -308,6 +310,24 @@ class Flex(unittest.TestCase):
     def test_a_row_that_just_fits(self):
         self.assertEqual(self.row("#b, #c { width: 9 }")["c"], (11, 0, 9, 1))
         self.assertEqual(self.row("#b { width: 9 } #c { width: 10 }")["c"], (0, 1, 10, 1))
+
+    def test_rows_break_by_widths_with_margins(self):
+        self.assertEqual(self.row("#a, #b { width: 8; padding: 0 1 } #c { display: none }")["b"], (10, 0, 10, 1))
+        self.assertEqual(self.row("#a, #b { width: 8; padding: 0 1 } #b { margin-right: 1 } #c { display: none }")["b"], (0, 1, 10, 1))
+
+    def test_what_is_left_is_reckoned_with_margins(self):
+        styles = "#a { margin: 0 3 } #b { padding: 0 2; border: 0 } #c { display: none } "
+        # 20 less 2, 6, 2 and 4.
+        self.assertEqual(self.row(styles + "#o { justify: end }")["b"][0], 14)
+        self.assertEqual(self.row(styles + "#o { justify: between }")["b"][0], 14)
+        self.assertEqual(self.row(styles + "#a { grow: 1 }")["b"][0], 14)
+
+    def test_a_row_without_height(self):
+        markup = '<div id="o"><div id="a"></div><div id="b"></div></div>'
+        self.assertEqual(places(markup, "#o { display: flex }", 9)["o"], (0, 0, 9, 0))
+
+    def test_a_flex_element_without_children(self):
+        self.assertEqual(places('<div id="o"></div>', "#o { display: flex; padding: 1 }", 9)["o"], (0, 0, 9, 2))
 
     def test_a_child_that_is_too_wide_stands_alone(self):
         found = self.row("#b { width: 30 }")

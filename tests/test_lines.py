@@ -81,7 +81,8 @@ class Lines(unittest.TestCase):
                          [[(0, "abc", NODE, 3), (3, "de", OTHER, 2)], [(0, "fg", OTHER, 2)]])
         self.assertEqual([line.width for line in lines], [5, 2])
         lines = break_lines(pieces, 3, "left")
-        self.assertEqual([text_of(line) for line in lines], ["abc", "def", "g"])
+        self.assertEqual([line.runs for line in lines],
+                         [[(0, "abc", NODE, 3)], [(0, "def", OTHER, 3)], [(0, "g", OTHER, 1)]])
 
     def test_only_the_piece_behind_a_space_is_asked_to_fit(self):
         pieces = pieces_of("ab cd") + [Piece("word", "ef", OTHER, 2)]

@@ -183,6 +183,11 @@ class Events(unittest.TestCase):
         page = page_of(self.MARKUP, script)
         self.assertEqual((page.printed, page.faults), (["true", "on"], ["unknown name"]))
 
+    def test_faults_of_listeners_leave_no_depth(self):
+        script = 'on(find("b"), "x", function (e) { [[[[[nothing]]]]]; }); let i = 0; while (i < 50) { i = i + 1; send(find("b"), "x"); } print(i);'
+        page = page_of(self.MARKUP, script)
+        self.assertEqual((page.printed, page.faults), (["50"], ["unknown name"] * 50))
+
     def test_a_refusal_stays_behind_a_fault(self):
         script = 'on(find("b"), "x", function (e) { refuse(e); nothing; }); print(send(find("b"), "x"));'
         self.assertEqual(page_of(self.MARKUP, script).printed, ["false"])

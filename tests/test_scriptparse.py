@@ -64,6 +64,7 @@ class Statements(unittest.TestCase):
 
     def test_what_the_head_of_a_for_may_be(self):
         wanted = (("for", "a", B, ()),)
+        self.assertIs(is_statement("for (a on b) { }"), False)
         for head in ("(a in b)", "(let a in b)", "(a of b)", "(let a of b)", "a in (b)"):
             self.assertEqual(parse_script("for " + head + " { }"), wanted, head)
 
@@ -224,7 +225,8 @@ class Limits(unittest.TestCase):
         self.assertIs(is_statement("while (a) { b(c[[!(-" + inner + ")]]);}"), False)
 
     def test_parts_that_are_closed_do_not_count(self):
-        for text in ("(a);" * 100, "a = [" + "[a], " * 100 + "(a)];", "while (a) { }" * 100, "if (a) { b(); } " * 100, "a = - 1;" * 100):
+        for text in ("(a);" * 100, "a = [" + "[a], " * 100 + "(a)];", "while (a) { }" * 100, "if (a) { b(); } " * 100, "a = - 1;" * 100,
+                     "a[1] = b[2](3)[4];" * 100, "let a = {b: 1};" * 100, "try { } catch (e) { }" * 100, "function f() { }" * 100):
             self.assertIs(is_statement(text), True, text[:20])
 
     def test_operations_of_each_level(self):

@@ -299,11 +299,11 @@ class Faults(Running):
     def test_too_many_steps_are_not_caught(self):
         self.fails("try { while (true) { } } catch (e) { print(e); } print(1);", "too many steps")
 
-    def test_each_step_counts(self):
-        # A while, and three parts and a statement each round but the last, which has the condition alone.
-        script = "let i = {}; while (i) {{ i = false; }} " + "i; " * 9990
-        self.assertEqual(run(script.format("true")), ([], []))
-        self.assertEqual(run(script.format("true") + "i; i; i; i; i; i; i; i; i; i; i; i;"), ([], ["too many steps"]))
+    def test_each_statement_and_each_expression_is_a_step(self):
+        self.prints("1; " * 10000)
+        self.fails("1; " * 9999 + "-1;", "too many steps")
+        self.prints("1 + 1; " * 5000)
+        self.fails("1 + 1; " * 5000 + "1;", "too many steps")
 
     def test_each_task_has_steps_of_its_own(self):
         script = "let i = 0; while (i < 2000) { i = i + 1; } print(i);"
@@ -337,6 +337,11 @@ class Faults(Running):
 
     def test_depth_is_as_before_behind_a_return_or_a_break(self):
         self.prints("function f() { while (true) { return 1; } } let i = 0; while (i < 100) { i = i + f(); while (true) { break; } } print(i);", "100")
+
+    def test_each_task_begins_at_no_depth(self):
+        deep = "let a = ((1" + " + 1" * 28 + ")" + " + 1" * 30 + ")" + " + 1" * 30
+        page = Page("<script>" + deep + " + null; </script><script>" + deep + "; print(a);</script>")
+        self.assertEqual((page.printed, page.faults), (["89"], ["too deep"]))
 
     def test_no_script(self):
         for text in ("let", "1 +;", "@", "a = ;"):
