@@ -26,7 +26,7 @@ class Box:
 
     def __init__(self, node, values):
         self.node = node
-        self.told = values
+        self.style = values
         self.children = []
         self.pieces = []
         self.lines = []
@@ -39,11 +39,11 @@ class Box:
 
     def is_flex(self):
         """Return True if the children stand in rows."""
-        return self.told["display"] == "flex"
+        return self.style["display"] == "flex"
 
     def is_absolute(self):
         """Return True if the box stands outside the flow."""
-        return self.told["position"] == "absolute"
+        return self.style["position"] == "absolute"
 
     def in_flow(self):
         """Return the children that stand in the flow, in order."""
@@ -99,7 +99,7 @@ def text_pieces(text, node, told):
     return spaced_pieces(shown, node)
 
 
-def thing_pieces(node, told):
+def pieces_in_line(node, told):
     """Return the pieces of a br, an img or an input that stands in a line."""
     if node.tag == "br":
         return [Piece("end", "", node, 0)]
@@ -107,8 +107,9 @@ def thing_pieces(node, told):
         width = resolved(told["width"], 0)
         shown = "#" * (IMG_WIDTH if width == "auto" else width)
         return [Piece("thing", shown, node, len(shown))]
+    # What an input shows is a text, so it is broken as other words are; only an img is a thing.
     shown = shown_value(node)
-    return [] if shown == "" else [Piece("thing", shown, node, len(shown))]
+    return [] if shown == "" else [Piece("word", shown, node, len(shown))]
 
 
 def values_without_element(above):
@@ -140,14 +141,14 @@ class Filler:
                 self.end_run()
                 self.boxes.append(built_box(child, self.styles))
             elif child.tag in IN_LINES:
-                self.run.extend(thing_pieces(child, told))
+                self.run.extend(pieces_in_line(child, told))
             else:
                 self.take_children(child)
 
     def end_run(self):
         """Put the pieces of a run into a box without an element, if they are more than spaces."""
         if any(piece.kind != "space" for piece in self.run):
-            box = Box(None, values_without_element(self.box.told))
+            box = Box(None, values_without_element(self.box.style))
             box.pieces = self.run
             self.boxes.append(box)
         self.run = []

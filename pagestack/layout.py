@@ -7,7 +7,7 @@ from pagestack.values import resolved
 
 def length(box, name, whole):
     """Return a length of a box in cells, auto as 0."""
-    found = resolved(box.told[name], whole)
+    found = resolved(box.style[name], whole)
     return 0 if found == "auto" else found
 
 
@@ -31,7 +31,7 @@ def around_width(box, whole):
 
 def limited(box, width, whole):
     """Return a width as the least and the greatest one of a box allow it."""
-    most = resolved(box.told["max-width"], whole)
+    most = resolved(box.style["max-width"], whole)
     if most != "auto":
         width = min(width, most)
     return max(width, length(box, "min-width", whole), 0)
@@ -39,18 +39,21 @@ def limited(box, width, whole):
 
 def content_width(box, whole):
     """Return the width of a block's content within a width."""
-    width = resolved(box.told["width"], whole)
+    width = resolved(box.style["width"], whole)
     if width == "auto":
         width = whole - around_width(box, whole)
     return limited(box, width, whole)
 
 
+def asked_width(box, whole):
+    """Return the width that a box's content asks for before its limits: the told one, else that of what is in it."""
+    width = resolved(box.style["width"], whole)
+    return wanted_inside(box, whole) if width == "auto" else width
+
+
 def wanted_width(box, whole):
     """Return the width that a box's content wants, with shares of a width."""
-    width = resolved(box.told["width"], whole)
-    if width == "auto":
-        width = wanted_inside(box, whole)
-    return limited(box, width, whole)
+    return limited(box, asked_width(box, whole), whole)
 
 
 def wanted_inside(box, whole):
@@ -63,18 +66,16 @@ def wanted_inside(box, whole):
 
 def placed_width(box, whole):
     """Return the width of an absolute box's content within the box around: what it wants, as far as that fits."""
-    width = resolved(box.told["width"], whole)
-    if width == "auto":
-        width = min(wanted_inside(box, whole), whole - around_width(box, whole))
-    return limited(box, width, whole)
+    fitting = whole - around_width(box, whole)
+    return limited(box, min(asked_width(box, whole), fitting), whole)
 
 
 def margin_before(box, content, whole):
     """Return the left margin of a block whose content has a width; auto margins share what is left."""
-    if box.told["margin-left"] != "auto":
+    if box.style["margin-left"] != "auto":
         return length(box, "margin-left", whole)
     rest = max(0, whole - content - around_width(box, whole))
-    return rest // 2 if box.told["margin-right"] == "auto" else rest
+    return rest // 2 if box.style["margin-right"] == "auto" else rest
 
 
 def put_box(box, left, top, content, whole):
@@ -86,13 +87,13 @@ def put_box(box, left, top, content, whole):
     box.inset_top = border + length(box, "padding-top", whole)
     box.width = content + frame_width(box, whole)
     if box.pieces != []:
-        box.lines = break_lines(box.pieces, content, box.told["text-align"])
+        box.lines = break_lines(box.pieces, content, box.style["text-align"])
         height = len(box.lines)
     elif box.is_flex():
         height = put_rows(box, content)
     else:
         height = put_blocks(box, content)
-    if box.told["height"] != "auto":
+    if box.style["height"] != "auto":
         height = length(box, "height", 0)
     box.height = height + frame_height(box, whole)
     for child in box.children:
@@ -118,7 +119,7 @@ def rows_of(box, content):
     """Return the rows of a flex element's children, each a list of (child, wanted width of its content)."""
     flow = box.in_flow()
     # The place stands behind the order, so that ties stay as they stand.
-    places = sorted([(child.told["order"], place) for place, child in enumerate(flow)])
+    places = sorted([(child.style["order"], place) for place, child in enumerate(flow)])
     rows = []
     used = 0
     for _, place in places:
@@ -135,12 +136,12 @@ def rows_of(box, content):
 
 def grown(row, rest):
     """Return the widths of a row's contents, what is left of the row being shared by weight."""
-    whole = sum(child.told["grow"] for child, _ in row)
+    whole = sum(child.style["grow"] for child, _ in row)
     weight = 0
     given = 0
     widths = []
     for child, width in row:
-        weight += child.told["grow"]
+        weight += child.style["grow"]
         # What the first ones have together is rounded down, so that nothing of the rest is lost.
         share = rest * weight // whole if whole > 0 else 0
         widths.append(width + share - given)
@@ -174,8 +175,8 @@ def put_row(box, row, above, content):
     widths = grown(row, rest)
     place = 0
     between = 0
-    if all(child.told["grow"] == 0 for child, _ in row):
-        place, between = justified(box.told["justify"], rest, len(row))
+    if all(child.style["grow"] == 0 for child, _ in row):
+        place, between = justified(box.style["justify"], rest, len(row))
     height = 0
     for (child, _), width in zip(row, widths):
         left = box.left + box.inset_left + place + length(child, "margin-left", content)
@@ -196,7 +197,7 @@ def put_absolute(box, around):
 
 def move_relative(box, right, down):
     """Move a box by what the boxes around it moved, and all relative boxes in it and itself by what they tell."""
-    if box.told["position"] == "relative":
+    if box.style["position"] == "relative":
         right += length(box, "left", box.width)
         down += length(box, "top", 0)
     box.left += right

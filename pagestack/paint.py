@@ -75,9 +75,9 @@ def element_at(canvas, column, row):
 
 def draw_border(canvas, box, clip):
     """Draw the border of a box that has one and room for it."""
-    if box.told["border"] == ("cells", 0) or box.width < 2 or box.height < 2:
+    if box.style["border"] == ("cells", 0) or box.width < 2 or box.height < 2:
         return
-    look = (box.told["color"], "none", box.node.number)
+    look = (box.style["color"], "none", box.node.number)
     edge = "+" + "-" * (box.width - 2) + "+"
     last = box.top + box.height - 1
     canvas.write(box.left, box.top, edge, look, clip)
@@ -103,8 +103,8 @@ def placed_children(box, is_below):
     """Return the children that are not static, by z-index: those with one below 0, or the others."""
     rows = []
     for place, child in enumerate(box.children):
-        index = child.told["z-index"]
-        if child.told["position"] != "static" and (index < 0) == is_below:
+        index = child.style["z-index"]
+        if child.style["position"] != "static" and (index < 0) == is_below:
             rows.append((index, place))
     return [box.children[place] for _, place in sorted(rows)]
 
@@ -113,14 +113,14 @@ def paint_box(canvas, box, styles, clip):
     """Paint a box and all in it, as far as a clip (left, top, width, height) lets it be seen."""
     area = (box.left, box.top, box.width, box.height)
     # A box without an element has nothing of its own: its cells stay those of the element around.
-    if box.node is not None and box.told["visibility"] == "visible":
-        canvas.fill(area, box.told["background"], box.node.number, clip)
+    if box.node is not None and box.style["visibility"] == "visible":
+        canvas.fill(area, box.style["background"], box.node.number, clip)
         draw_border(canvas, box, clip)
-    inner = meeting(clip, area) if box.told["overflow"] == "hidden" else clip
+    inner = meeting(clip, area) if box.style["overflow"] == "hidden" else clip
     for child in placed_children(box, True):
         paint_box(canvas, child, styles, inner)
     for child in box.children:
-        if child.told["position"] == "static":
+        if child.style["position"] == "static":
             paint_box(canvas, child, styles, inner)
     write_lines(canvas, box, styles, inner)
     for child in placed_children(box, False):

@@ -85,12 +85,12 @@ class Boxes(unittest.TestCase):
         self.assertEqual(root_shape('<div>a <b>B</b></div>', "b { text-transform: lower }"), ("html", "", [("div", "a b", [])]))
         self.assertEqual(root_shape("<pre>a\n</pre>", "pre { text-transform: upper }"), ("html", "", [("pre", "A|", [])]))
 
-    def test_things(self):
-        markup = '<img><input value="v"><input type="checkbox"><input type="checkbox" checked><input type="hidden" value="h">'
+    def test_an_img_is_a_thing_and_what_inputs_show_are_words(self):
+        markup = '<img><input value="v w"><input type="checkbox"><input type="checkbox" checked><input type="hidden" value="h"><input>'
         _, root = laid(markup)
         self.assertEqual([(piece.kind, piece.text, piece.width) for piece in root.pieces],
-                         [("thing", "###", 3), ("thing", "[v]", 3), ("thing", "[ ]", 3), ("thing", "[x]", 3)])
-        self.assertEqual([piece.node.number for piece in root.pieces], [1, 2, 3, 4])
+                         [("thing", "###", 3), ("word", "[v w]", 5), ("word", "[ ]", 3), ("word", "[x]", 3), ("word", "[]", 2)])
+        self.assertEqual([piece.node.number for piece in root.pieces], [1, 2, 3, 4, 6])
 
     def test_texts_of_inputs_are_not_transformed(self):
         self.assertEqual(root_shape('<input value="aB">', "input { text-transform: upper }"), ("html", "[aB]", []))
@@ -406,12 +406,23 @@ class Placed(unittest.TestCase):
 
     def test_the_width_of_an_absolute_box(self):
         markup = '<div id="o"><div id="a">aaa bbb ccc</div></div>'
-        for told, wanted in (("", (0, 0, 8, 2)), ("width: 12", (0, 0, 12, 1)), ("width: 50pc", (0, 0, 4, 3)),
+        for told, wanted in (("", (0, 0, 8, 2)), ("width: 12", (0, 0, 8, 2)), ("width: 50pc", (0, 0, 4, 3)),
+                             ("width: 8", (0, 0, 8, 2)), ("width: 7", (0, 0, 7, 2)), ("width: 200pc", (0, 0, 8, 2)),
                              ("padding: 0 1; margin: 0 1", (1, 0, 6, 3)), ("max-width: 3", (0, 0, 3, 3)),
-                             ("min-width: 11", (0, 0, 11, 1)), ("left: 6", (6, 0, 8, 2)),
+                             ("width: 12; padding: 0 1; margin: 0 1", (1, 0, 6, 3)), ("width: 12; border: 1", (0, 0, 8, 5)),
+                             ("width: 5; max-width: 3", (0, 0, 3, 3)), ("width: 12; min-width: 10", (0, 0, 10, 2)),
+                             ("width: 12; margin: 0 5", (5, 0, 0, 9)), ("width: 0", (0, 0, 0, 9)),
+                             ("min-width: 11", (0, 0, 11, 1)), ("left: 6", (6, 0, 8, 2)), ("width: 12; left: 6", (6, 0, 8, 2)),
                              ("margin-left: auto", (0, 0, 8, 2)), ("left: 25pc; top: -3", (2, -3, 8, 2))):
             found = places(markup, "#o { width: 8 } #a { position: absolute; " + told + " }")
             self.assertEqual(found["a"], wanted, told)
+
+    def test_inputs_count_for_what_a_content_wants(self):
+        markup = '<div id="o"><div id="a">ab<input value="cd"> e<input type="checkbox"><br><input></div></div>'
+        for told, wanted in (("", (0, 0, 11, 2)), ("max-width: 4", (0, 0, 4, 4)), ("width: 12", (0, 0, 12, 2))):
+            self.assertEqual(places(markup, "#a { position: absolute; " + told + " }", 20)["a"], wanted, told)
+        self.assertEqual(places(markup, "#o { display: flex }", 20)["a"], (0, 0, 11, 2))
+        self.assertEqual(places(markup, "#o { width: 5 } #a { position: absolute }", 20)["a"], (0, 0, 5, 4))
 
     def test_shares_of_an_absolute_box_are_of_the_box_around(self):
         styles = "#o { width: 10; padding: 0 5; border: 1 } #a { position: absolute; width: 50pc; left: 10pc; padding: 0 25pc }"

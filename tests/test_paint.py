@@ -176,6 +176,22 @@ class Painting(unittest.TestCase):
         self.assertEqual(canvas.letter_rows(), ("###[x]  ",))
         self.assertEqual((colours(canvas, 1), colours(canvas, 2)), (["rrrbbbbb"], ["yyywwwww"]))
 
+    def test_what_an_input_shows_is_broken_as_a_word_is(self):
+        for markup, width, rows in (('abc<input value="de">', 5, ["abc[d", "e]   "]), ('abc <input value="de">', 6, ["abc   ", "[de]  "]),
+                                    ('abc <input value="de">', 8, ["abc [de]"]), ('abc<input type="checkbox">', 5, ["abc[ ", "]    "]),
+                                    ('abc <input type="checkbox" checked>', 4, ["abc ", "[x] "]),
+                                    ('a <input value="b c d">e', 4, ["a   ", "[b c", " d]e"]), ("ab<input>c", 3, ["ab[", "]c "]),
+                                    ('<input value="abcdef">', 3, ["[ab", "cde", "f] "]), ('<input value="a"> b', 1, list("[a]b"))):
+            self.assertEqual(list(window(markup, "", width, len(rows)).letter_rows()), rows, markup)
+
+    def test_the_cells_of_a_broken_input_are_its_own(self):
+        canvas = window('abc<input value="de"><b>f</b>', "input { color: red; background: yellow }", 5, 2)
+        self.assertEqual((colours(canvas, 1), colours(canvas, 2)), (["bbbrr", "rrbbb"], ["wwwyy", "yywww"]))
+        self.assertEqual([canvas.cell(column, row)[3] for column, row in ((2, 0), (3, 0), (4, 0), (0, 1), (1, 1), (2, 1))], [0, 4, 4, 4, 4, 5])
+
+    def test_an_img_is_never_broken(self):
+        self.assertEqual(window("abc<img>d", "", 4, 2).letter_rows(), ("abc#", "d   "))
+
     def test_an_img_with_a_box_shows_nothing(self):
         canvas = window("<img>", "img { display: block; background: green; height: 1; width: 2 }", 4, 2)
         self.assertEqual((canvas.letter_rows()[0], colours(canvas, 2)), ("    ", ["ggww", "wwww"]))
