@@ -12,6 +12,7 @@ from pagestack.styles import parse_styles
 
 MOST_PUT_OFF = 100
 MOST_TIMERS = 1000
+MOST_VALUE = 100
 
 
 def texts_of(document, tag):
@@ -219,6 +220,16 @@ class Page:
         """Send a form, if there is one, and want its address unless that is refused."""
         if form is not None and self.happen("submit", form):
             self.wanted = form_address(form)
+
+    def press_key(self, sign):
+        """Send a key to the focus, if that is in the tree, and let it change the value there unless it is refused."""
+        node = self.focus
+        if node is None or node.path()[0] != self.document.root or not self.happen("key", node, sign):
+            return
+        fresh = node.value[:-1] if sign == "<" else node.value + sign
+        if len(fresh) <= MOST_VALUE:
+            node.value = fresh
+            self.happen("change", node, fresh)
 
     def add_timer(self, function, ticks):
         """Let a function run when some ticks have passed; return the number of the timer."""

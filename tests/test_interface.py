@@ -49,6 +49,33 @@ CLASSES = {
         "Page": {"__init__": "markup, width=40, height=20", "laid_out": "", "painted": "", "resize": "width, height",
                  "click": "node", "wait": "ticks"},
     },
+    "records": {
+        "Recorder": {"__init__": "document", "take": "", "make": "tag, text=''", "place_before": "parent, child, place",
+                     "append": "parent, child", "remove": "child", "set_attribute": "node, name, value", "set_text": "node, text"},
+    },
+    "origins": {
+        "Address": {"__init__": "scheme, host, port, path", "origin": "", "as_text": ""},
+        "Policy": {"__init__": "rules", "may_load": "sort, page, address"},
+        "Wish": {"__init__": "page, address, method, heads=(), with_cookies=False", "is_own": "", "needs_asking": ""},
+        "Shares": {"__init__": "origins, methods=(), heads=(), cookies=False", "may_ask": "wish", "may_read": "wish", "shares_with": "wish"},
+    },
+    "jars": {
+        "Cookie": {"__init__": "name, text, host, below, path, safe, until", "identity": ""},
+        "Jar": {"__init__": "", "put": "line, address, time", "clean": "time", "close": "", "sent": "address, time"},
+    },
+    "shelves": {
+        "Change": {"__init__": "page"},
+        "Shelf": {"__init__": "", "open_page": "page", "close_page": "page", "need": "page", "begin": "page", "owned": "page",
+                  "set_row": "page, key, text", "read_row": "page, key", "after": "change", "commit": "page", "roll_back": "page", "told": "page"},
+    },
+    "motion": {
+        "Path": {"__init__": "first, last, start, length, way", "is_over": "time", "value_at": "time"},
+        "Mover": {"__init__": "", "set_way": "name, length, way", "value_now": "name", "go_to": "name, last", "tick": "many=1", "moving": ""},
+    },
+    "browser": {
+        "Browser": {"__init__": "site, width=40, height=20", "shown_page": "", "address": "", "open_page": "address", "go_to": "wanted",
+                    "enter": "line"},
+    },
 }
 FUNCTIONS = {
     "markup": {"with_entities": "text", "escaped": "text", "parse_markup": "text", "markup_of": "node", "inner_markup": "node"},
@@ -70,10 +97,29 @@ FUNCTIONS = {
     "scriptparse": {"parse_script": "text", "is_statement": "text"},
     "calls": {"number_of": "text", "event_part": "name, event", "good_tag": "value"},
     "page": {"form_rows": "form", "coded": "text"},
+    "records": {"replayed": "document, records", "taken_back": "document, records", "put_at": "document, node, parent, place",
+                "joined_records": "records"},
+    "patches": {"is_like": "one, other", "check_keys": "tree", "patches": "old, new", "kept_children": "old, new", "patched": "tree, rows"},
+    "templates": {"parse_template": "text", "is_yes": "value", "text_of_value": "value", "fill_template": "parts, values",
+                  "template_text": "parts", "names_asked": "parts"},
+    "origins": {"parse_address": "text", "is_below_host": "host, other", "parse_policy": "text", "origin_text": "address"},
+    "jars": {"parse_cookie": "line, address, time", "folder_of": "path", "fits_path_of": "cookie, path"},
+    "motion": {"share_of": "gone, length, way"},
+    "outline": {"role_of": "node", "is_left_out": "node", "name_of": "node, document", "label_for": "node, document", "outline": "document",
+                "focus_order": "document", "order_told": "node", "headings": "document"},
+}
+CONSTANTS = {
+    "markup": ("TAG_SIGNS",), "values": ("COLOURS",), "calls": ("FUNCTIONS",), "origins": ("SORTS",), "motion": ("WAYS",),
+    "outline": ("ROLES", "FOCUS"),
 }
 
 
 class Interface(unittest.TestCase):
+    def test_constants(self):
+        for file, names in CONSTANTS.items():
+            for name in names:
+                self.assertIn(name, vars(importlib.import_module("pagestack." + file)))
+
     def test_functions(self):
         for file, rows in FUNCTIONS.items():
             module = importlib.import_module("pagestack." + file)
