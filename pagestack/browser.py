@@ -4,11 +4,11 @@ from pagestack.errors import PageError, PlaceError
 from pagestack.markup import markup_of
 from pagestack.page import Page
 from pagestack.paint import element_at
+from pagestack.texts import is_digits
 from pagestack.values import all_names, value_text
 
 MOST_VISITS = 50
 MOST_FOLLOWED = 5
-DIGITS = "0123456789"
 MOST_DIGITS = 3
 
 
@@ -20,11 +20,8 @@ def site_name(address):
 def numbers_in(rest, many):
     """Return the numbers of a line's rest; raise PlaceError if it is not so many of at most three digits."""
     words = rest.split(" ")
-    if len(words) != many:
+    if len(words) != many or not all(is_digits(word, MOST_DIGITS) for word in words):
         raise PlaceError("other numbers")
-    for word in words:
-        if not 0 < len(word) <= MOST_DIGITS or any([sign not in DIGITS for sign in word]):
-            raise PlaceError("no number")
     return [int(word) for word in words]
 
 

@@ -6,6 +6,7 @@ from pagestack.markup import TAG_SIGNS
 from pagestack.scriptvalues import Function, ScriptList, ScriptTable
 from pagestack.scriptvalues import is_element, is_whole, kind_of, same, told_text
 from pagestack.selectors import find_all
+from pagestack.texts import is_digits
 
 FUNCTIONS = (
     ("find", 1, 1), ("all", 1, 1), ("make", 1, 1), ("text", 1, 1), ("setText", 2, 2), ("get", 2, 2), ("set", 3, 3),
@@ -16,7 +17,6 @@ FUNCTIONS = (
     ("push", 2, 2), ("keys", 1, 1), ("str", 1, 1), ("num", 1, 1), ("go", 1, 1), ("box", 1, 1), ("kind", 1, 1),
 )
 EVENT_PARTS = ("stop", "stopNow", "refuse", "target", "current", "phase", "detail")
-DIGITS = "0123456789"
 MOST_DIGITS = 15
 MOST_TEXT = 2000
 MOST_ROWS = 2000
@@ -47,10 +47,7 @@ def function_in(value):
 
 def number_of(text):
     """Return the number of a text, None if it is none of at most 15 digits."""
-    digits = text.removeprefix("-")
-    if not 0 < len(digits) <= MOST_DIGITS or any(sign not in DIGITS for sign in digits):
-        return None
-    return int(text)
+    return int(text) if is_digits(text.removeprefix("-"), MOST_DIGITS) else None
 
 
 def event_part(name, event):

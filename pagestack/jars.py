@@ -2,8 +2,8 @@
 
 from pagestack.errors import StoreError
 from pagestack.origins import is_below_host
+from pagestack.texts import is_digits, is_visible
 
-DIGITS = "0123456789"
 SIGNS = "abcdefghijklmnopqrstuvwxyzABCDEFGHIJKLMNOPQRSTUVWXYZ0123456789-_"
 MOST_SIGNS = 100
 MOST_DIGITS = 15
@@ -69,14 +69,14 @@ def host_of(word, address):
 
 def path_in(word):
     """Return a path; raise StoreError for others."""
-    if not word.startswith("/") or any([not "!" <= sign <= "~" for sign in word]):
+    if not word.startswith("/") or not is_visible(word):
         raise StoreError("no path")
     return word
 
 
 def end_after(word, time):
     """Return the time when so many ticks have passed; raise StoreError for no number of ticks."""
-    if not 0 < len(word) <= MOST_DIGITS or any([sign not in DIGITS for sign in word]):
+    if not is_digits(word, MOST_DIGITS):
         raise StoreError("no number of ticks")
     return time + int(word)
 

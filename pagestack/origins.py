@@ -1,12 +1,12 @@
 """Origins: who may load and read what from where."""
 
 from pagestack.errors import PolicyError
+from pagestack.texts import is_digits, is_visible
 
 SORTS = ("script", "style", "image", "frame", "data")
 # By scheme: the port that it has anyway.
 PORTS = {"web": 80, "safe": 443}
 HOST_SIGNS = "abcdefghijklmnopqrstuvwxyz0123456789-"
-DIGITS = "0123456789"
 MOST_ADDRESS = 200
 MOST_PORT = 65535
 MOST_PORT_DIGITS = 5
@@ -48,12 +48,9 @@ def is_host(text):
 
 def port_of(text):
     """Return the port of a text; raise PolicyError for others."""
-    if not 0 < len(text) <= MOST_PORT_DIGITS or any([sign not in DIGITS for sign in text]) or text[0] == "0":
+    if not is_digits(text, MOST_PORT_DIGITS) or text.startswith("0") or int(text) > MOST_PORT:
         raise PolicyError("no port")
-    port = int(text)
-    if port > MOST_PORT:
-        raise PolicyError("no port")
-    return port
+    return int(text)
 
 
 def parse_address(text):
@@ -63,7 +60,7 @@ def parse_address(text):
     host, colon, port = before.partition(":")
     if scheme not in PORTS or mark == "" or len(text) > MOST_ADDRESS or not is_host(host):
         raise PolicyError("no address")
-    if any([not "!" <= sign <= "~" for sign in path]):
+    if not is_visible(path):
         raise PolicyError("no path")
     return Address(scheme, host, PORTS[scheme] if colon == "" else port_of(port), "/" + path)
 

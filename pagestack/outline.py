@@ -1,6 +1,7 @@
 """Outline: what a page says to who does not see it: what things are, what they are called, and in which order."""
 
 from pagestack.markup import RAW
+from pagestack.texts import is_digits
 
 ROLES = {
     "a": "link", "button": "button", "img": "image", "li": "item", "ul": "list", "ol": "list", "form": "form",
@@ -10,7 +11,6 @@ FOCUS = ("link", "button", "field", "mark")
 # By class of an input; other inputs are fields.
 INPUT_ROLES = {"checkbox": "mark", "submit": "button", "hidden": None}
 NOT_BY_TEXT = ("field", "mark", "image")
-DIGITS = "0123456789"
 MOST_DIGITS = 4
 
 
@@ -41,9 +41,9 @@ def told_name(node, document):
     label = node.attribute("label")
     if label is not None:
         return squeezed(label)
-    number = node.attribute("labelledby")
-    if number is not None:
-        other = document.by_id(number)
+    told_by = node.attribute("labelledby")
+    if told_by is not None:
+        other = document.by_id(told_by)
         return "" if other is None else squeezed(other.content())
     for word in ("alt", "title"):
         text = squeezed(node.attributes.get(word, ""))
@@ -98,10 +98,7 @@ def outline(document):
 def order_told(node):
     """Return the number of the attribute "order", None for none, or for no whole number of up to four digits."""
     text = node.attributes.get("order", "")
-    digits = text.removeprefix("-")
-    if not 0 < len(digits) <= MOST_DIGITS or any([sign not in DIGITS for sign in digits]):
-        return None
-    return int(text)
+    return int(text) if is_digits(text.removeprefix("-"), MOST_DIGITS) else None
 
 
 def can_have_focus(node):

@@ -1,4 +1,9 @@
-"""Records: what is done to a document, told so that it can be done again elsewhere, or taken back."""
+"""Records: what is done to a document, told so that it can be done again elsewhere, or taken back.
+
+Records are ("place", child, parent, place, old parent or None, old place), ("remove", child, parent, place),
+("attribute", node, name, old, new), ("text", node, old, new) and ("make", node, tag, text), all nodes by number. The
+place of a placed node is the one behind the deed.
+"""
 
 from pagestack.errors import TreeError
 

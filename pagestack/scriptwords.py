@@ -1,9 +1,8 @@
 """Script words: texts of scripts to tokens."""
 
 from pagestack.errors import ScriptError
-from pagestack.texts import BLANKS, after_run
+from pagestack.texts import BLANKS, DIGITS, after_run
 
-DIGITS = "0123456789"
 FIRST_SIGNS = "abcdefghijklmnopqrstuvwxyzABCDEFGHIJKLMNOPQRSTUVWXYZ_"
 WORDS = (
     "let", "if", "else", "while", "for", "in", "return", "break", "throw", "try", "catch", "function",

@@ -103,12 +103,11 @@ def is_name(text):
     return text != "" and text not in WORDS and all(sign in NAME_SIGNS for sign in text)
 
 
-def path_of(text):
-    """Return the names of a path; raise TemplateError for other texts."""
-    names = tuple(text.split("."))
-    if not all(is_name(name) for name in names):
+def path_in(text):
+    """Return a text that is a path, names parted by "."; raise TemplateError for others."""
+    if not all(is_name(name) for name in text.split(".")):
         raise TemplateError("no path")
-    return names
+    return text
 
 
 class TemplateReader:
@@ -163,11 +162,11 @@ class TemplateReader:
     def read_place(self, words):
         """Return the part that begins with a place's words, having moved past it."""
         if len(words) == 1:
-            return ("value", path_of(words[0]))
+            return ("value", path_in(words[0]))
         if len(words) == 2 and words[0] == "if":
-            return self.read_if(path_of(words[1]))
+            return self.read_if(path_in(words[1]))
         if len(words) == 4 and words[0] == "each" and words[2] == "as" and is_name(words[3]):
-            return self.read_each(path_of(words[1]), words[3])
+            return self.read_each(path_in(words[1]), words[3])
         raise TemplateError("no such place for values")
 
     def begin_part(self):
@@ -211,7 +210,7 @@ class TemplateReader:
 def parse_template(text):
     """Return the parts of a template: texts, ("value", path), ("if", path, parts, parts), ("each", path, name, parts).
 
-    A path is a tuple of names. Raise TemplateError for signs that do not fit, and for places where no value may stand.
+    A path is a text, too. Raise TemplateError for signs that do not fit, and for places where no value may stand.
     """
     parts, word = TemplateReader(text).read_parts()
     if word != "":
@@ -238,7 +237,7 @@ def text_of_value(value):
 def value_at(path, values):
     """Return the value to which a path leads from a table; raise TemplateError if there is none."""
     found = values
-    for name in path:
+    for name in path.split("."):
         if not isinstance(found, dict) or name not in found:
             raise TemplateError("no such value")
         found = found[name]
@@ -297,7 +296,7 @@ def part_text(part):
     """Return the text of a part of a template."""
     if isinstance(part, str):
         return part.replace("{", "{{")
-    path = ".".join(part[1])
+    path = part[1]
     if part[0] == "value":
         return "{" + path + "}"
     if part[0] == "each":
@@ -316,8 +315,9 @@ def note_names(parts, own, found):
     for part in parts:
         if isinstance(part, str):
             continue
-        if part[1][0] not in own:
-            found[part[1][0]] = True
+        name = part[1].partition(".")[0]
+        if name not in own:
+            found[name] = True
         if part[0] == "if":
             note_names(part[2] + part[3], own, found)
         elif part[0] == "each":

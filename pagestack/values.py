@@ -1,6 +1,7 @@
 """Values: what style properties may be, and which they have by themselves."""
 
 from pagestack.errors import StyleError
+from pagestack.texts import is_digits
 
 COLOURS = ("black", "red", "green", "blue", "yellow", "white", "grey", "none")
 WORDS = {
@@ -23,6 +24,7 @@ WITH_AUTO = ("width", "height", "left", "top", "max-width", "margin-left", "marg
 WITHOUT_SHARE = ("border", "height", "top")
 BELOW_ZERO = ("left", "top")
 NUMBERS = ("z-index", "order", "grow")
+MOST_DIGITS = 3
 # Which of one to four lengths each side takes.
 SIDE_PLACES = {1: (0, 0, 0, 0), 2: (0, 1, 0, 1), 3: (0, 1, 2, 1), 4: (0, 1, 2, 3)}
 
@@ -51,8 +53,7 @@ def initial(name):
 
 def is_number(text):
     """Return True for a whole number of at most three digits, perhaps after "-"."""
-    digits = text.removeprefix("-")
-    return 0 < len(digits) < 4 and all(sign in "0123456789" for sign in digits)
+    return is_digits(text.removeprefix("-"), MOST_DIGITS)
 
 
 def length_of(name, text):
