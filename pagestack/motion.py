@@ -60,6 +60,7 @@ class Mover:
 
     def __init__(self):
         self.values_now = {}
+        # Only unfinished paths: each takes a tick at least, and goes with the tick that ends it.
         self.paths = {}
         self.ways = {}
         self.time = 0
@@ -83,27 +84,27 @@ class Mover:
         A way back to where an unfinished path came from takes as long as was gone.
         """
         if name not in self.paths and name not in self.values_now:
-            self.values_now[name] = last
+            self.stay(name, last)
             return
         now = self.value_now(name)
-        if now == last:
-            self.stay(name, now)
-            return
         length, way = self.ways.get(name, AT_ONCE)
+        # Of a way without ticks nothing is left that could end when time passes, so no path is kept for a tick to tell.
+        if now == last or length == 0:
+            self.stay(name, last)
+            return
         length = min(length, self.longest_back(name, last, length))
         self.paths[name] = Path(now, last, self.time, length, way)
 
-    def stay(self, name, now):
-        """Let a value stay where it is now."""
-        self.values_now[name] = now
-        # A path that has ended, which no tick has told yet, is still to be told.
-        if name in self.paths and not self.paths[name].is_over(self.time):
+    def stay(self, name, value):
+        """Let a name have a value at once; what was under way is under way no more."""
+        self.values_now[name] = value
+        if name in self.paths:
             del self.paths[name]
 
     def longest_back(self, name, last, length):
         """Return how long a way may take: what was gone of an unfinished path if it leads back to its beginning."""
         path = self.paths.get(name)
-        if path is None or path.is_over(self.time) or path.first != last:
+        if path is None or path.first != last:
             return length
         return self.time - path.start
 
@@ -118,4 +119,4 @@ class Mover:
 
     def moving(self):
         """Return the names that are on their way, ascending."""
-        return tuple(name for name in sorted(self.paths) if not self.paths[name].is_over(self.time))
+        return tuple(sorted(self.paths))

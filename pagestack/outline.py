@@ -36,15 +36,20 @@ def squeezed(text):
     return " ".join([word for word in text.replace("\n", " ").split(" ") if word != ""])
 
 
+def element_told_by(node, document):
+    """Return the element whose id the attribute "labelledby" of another one tells, None for none."""
+    name = node.attribute("labelledby")
+    return None if name is None else document.by_id(name)
+
+
 def told_name(node, document):
     """Return what an element is called by its attributes, None if they tell nothing."""
     label = node.attribute("label")
     if label is not None:
         return squeezed(label)
-    told_by = node.attribute("labelledby")
-    if told_by is not None:
-        other = document.by_id(told_by)
-        return "" if other is None else squeezed(other.content())
+    other = element_told_by(node, document)
+    if other is not None:
+        return squeezed(other.content())
     for word in ("alt", "title"):
         text = squeezed(node.attributes.get(word, ""))
         if text != "":
@@ -62,7 +67,7 @@ def name_of(node, document):
     if told is not None:
         return told
     text = "" if role_of(node) in NOT_BY_TEXT else squeezed(node.content())
-    return label_for(node, document) if text == "" else text
+    return squeezed(label_for(node, document)) if text == "" else text
 
 
 def label_for(node, document):
@@ -72,7 +77,7 @@ def label_for(node, document):
         return ""
     for one in document.root.all_nodes():
         if one.tag == "label" and one.attribute("for") == name:
-            return squeezed(one.content())
+            return one.content()
     return ""
 
 

@@ -101,13 +101,36 @@ class Movers(unittest.TestCase):
     def test_without_a_way_a_value_is_there_at_once(self):
         self.mover.go_to("y", 1)
         self.mover.go_to("y", 5)
-        self.assertEqual((self.mover.value_now("y"), self.mover.moving(), self.mover.tick(), self.mover.tick()), (5, (), ("y",), ()))
+        self.assertEqual((self.mover.value_now("y"), self.mover.moving(), self.mover.tick(4), self.mover.value_now("y")), (5, (), (), 5))
 
-    def test_an_end_without_ticks_is_told_once(self):
+    def test_no_tick_tells_a_way_without_ticks(self):
+        for way in WAYS:
+            self.mover.set_way("y", 0, way)
+            for last in (1, -8, -8, 1, 0):
+                self.mover.go_to("y", last)
+                self.assertEqual((self.mover.value_now("y"), self.mover.moving()), (last, ()))
+            self.assertEqual((self.mover.tick(0), self.mover.tick(), self.mover.tick(9), self.mover.value_now("y")), ((), (), (), 0))
+
+    def test_a_way_without_ticks_ends_what_was_under_way(self):
+        for gone, last in ((0, 7), (4, 20), (4, 10), (4, 4), (4, 0), (9, 0)):
+            mover = Mover()
+            for name in ("x", "z"):
+                mover.set_way(name, 10, "even")
+                mover.go_to(name, 0)
+                mover.go_to(name, 10)
+            mover.tick(gone)
+            mover.set_way("x", 0, "even")
+            self.assertEqual(mover.moving(), ("x", "z"))
+            mover.go_to("x", last)
+            self.assertEqual((mover.value_now("x"), mover.moving()), (last, ("z",)), (gone, last))
+            self.assertEqual((mover.tick(10), mover.value_now("x"), mover.tick(10)), (("z",), last, ()), (gone, last))
+
+    def test_a_way_with_ticks_behind_one_without(self):
         self.mover.go_to("y", 1)
         self.mover.go_to("y", 5)
-        self.mover.go_to("y", 5)
-        self.assertEqual((self.mover.tick(0), self.mover.tick(0), self.mover.value_now("y")), (("y",), (), 5))
+        self.mover.set_way("y", 2, "even")
+        self.mover.go_to("y", 1)
+        self.assertEqual([(self.mover.tick(), self.mover.value_now("y")) for _ in range(3)], [((), 3), (("y",), 1), ((), 1)])
 
     def test_a_value_that_is_where_it_should_go_goes_nowhere(self):
         self.mover.go_to("x", 0)

@@ -78,12 +78,29 @@ class Names(unittest.TestCase):
 
     def test_empty_ones(self):
         rest = ' alt="A" title="T">own</p><b id="o"></b><b id="">e</b><label for="x">for</label>'
-        for told, wanted in ((' label=""', ""), (" label", ""), (' label="  "', ""), (' labelledby="o"', ""), (' labelledby="none"', ""), (' label="" labelledby="x"', "")):
+        for told, wanted in ((' label=""', ""), (" label", ""), (' label="  "', ""), (' labelledby="o"', ""), (' labelledby=""', "e"), (' label="" labelledby="x"', "")):
             self.named('<p id="x"' + told + rest, wanted)
-        self.named('<p id="x" labelledby="" alt="A">own</p>', "")
+        self.named('<p id="x" labelledby="o" alt="A">own</p><b id="o"> \n </b>', "")
         self.named('<p id="x" alt="" title="T">own</p>', "T")
         self.named('<p id="x" alt="" title="">own</p>', "own")
         self.named('<p id="x" alt title> </p><label for="x">for</label>', "for")
+
+    def test_labelledby_with_the_id_of_no_element(self):
+        label = '<label for="x">for</label>'
+        for told in (' labelledby="gone"', ' labelledby=""', " labelledby", ' labelledby="X"'):
+            for more, wanted in ((' label="L"', "L"), (' alt="A" title="T"', "A"), (' alt="" title="T"', "T"), (' title="T"', "T"), ("", "own")):
+                self.named('<p id="x"' + told + more + "> own </p>" + label, wanted)
+            self.named('<h2 id="x"' + told + "> two\n words </h2>", "two words")
+            for tag in ("input", "img", 'input type="checkbox"', 'input type="submit"'):
+                self.named("<" + tag + ' id="x"' + told + ' alt="A">' + label, "A")
+                self.named("<" + tag + ' id="x"' + told + ">" + label, "for")
+                self.named("<" + tag + ' id="x"' + told + ">", "")
+
+    def test_labelledby_with_an_element_that_is_out_of_the_tree(self):
+        node, document = by_id('<img id="x" labelledby="o" alt="A"><b id="o">by</b>')
+        self.assertEqual(name_of(node, document), "by")
+        document.remove(document.by_id("o"))
+        self.assertEqual(name_of(node, document), "A")
 
     def test_fields_marks_and_images_are_not_called_by_their_text(self):
         for markup in ('<div id="x" role="field">own</div>', '<div id="x" role="mark">own</div>', '<div id="x" role="image">own</div>'):
@@ -110,6 +127,12 @@ class Names(unittest.TestCase):
             self.assertEqual(label_for(document.root.element_children()[1], document), "")
         node, document = by_id('<input id="x"><label for="x"></label><label for="x">b</label>')
         self.assertEqual((label_for(node, document), name_of(node, document)), ("", ""))
+
+    def test_the_text_of_a_label_stands_as_it_is(self):
+        for text, name in ((" two  words ", "two words"), ("\na\n\n b\n", "a b"), ("  \n ", ""), (" a<i>  b</i>", "a b")):
+            for tag in ("input", "img", "button"):
+                node, document = by_id('<label for="x">' + text + "</label><" + tag + ' id="x">')
+                self.assertEqual((label_for(node, document), name_of(node, document)), (text.replace("<i>", "").replace("</i>", ""), name))
 
 
 class Outlines(unittest.TestCase):
